@@ -1,0 +1,1 @@
+"""Leastnet: what every net that allows the seen runs must allow."""

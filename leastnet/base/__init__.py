@@ -1,0 +1,1 @@
+"""Words, vectors, fractions and equations."""

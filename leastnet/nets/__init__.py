@@ -1,0 +1,1 @@
+"""Places and nets."""
