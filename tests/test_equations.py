@@ -196,6 +196,19 @@ class Solved(Case):
                 told[wanted] += 1
         self.assertTrue(min(told.values()) > 100)
 
+    def test_many_rows(self):
+        chance = random.Random(12)
+        told = []
+        for _ in range(60):
+            rows = chance_rows(chance, chance.randint(11, 32), chance.randint(9, 25), 3)
+            self.same(reduced(rows), tuple(whole(row) for row in plain_form(rows)))
+            x = [chance.randint(-5, 5) for _ in rows[0]]
+            right = [sum(u * v for u, v in zip(row, x)) for row in rows]
+            self.same(self.paper(rows, tuple(right)), "solution")
+            right[chance.randrange(len(right))] += 1
+            told.append(self.paper(rows, tuple(right)))
+        self.assertTrue(5 < told.count("conflict") < 55)
+
     def test_errors(self):
         for call in (solved, lambda rows, right: is_solved(rows, right, None)):
             wrong = [("rows", (1,), InvalidPoints, None), ("right", (1,), InvalidVector, None)]

@@ -4,6 +4,8 @@ from math import gcd, lcm
 
 from leastnet.base.integers import common_divisor, divided_by
 
+TOGETHER = 10
+
 
 def first_pivot(row, wide):
     """Return the first of these many columns in which the row is not 0, or None."""
@@ -28,20 +30,33 @@ def cleared(row, other, pivot):
 
 
 def rest_of(row, table):
-    """Return the row with 0 at all pivots of the table."""
+    """Return a multiple of the row with 0 at all pivots of the table."""
     for pivot, other in table.items():
         if row[pivot] != 0:
             row = cleared(row, other, pivot)
     return shortened(row)
 
 
-def with_row(table, row, pivot):
-    """Return the table with one more row, which has 0 at all its pivots."""
-    joined = {}
-    for column, other in table.items():
-        joined[column] = other if other[pivot] == 0 else shortened(cleared(other, row, pivot))
-    joined[pivot] = row
+def with_table(table, more):
+    """Return the rows of both tables; those of the second one have 0 at the pivots of the first one already."""
+    joined = {pivot: rest_of(row, more) for pivot, row in table.items()}
+    joined.update(more)
     return joined
+
+
+def one_by_one(rows, wide):
+    """Do for a few rows what `eliminated` says."""
+    table = {}
+    chosen = []
+    for at, row in enumerate(rows):
+        rest = rest_of(row, table)
+        pivot = first_pivot(rest, wide)
+        if pivot is not None:
+            table = with_table(table, {pivot: rest})
+            chosen.append(at)
+        elif first_pivot(rest, len(rest)) is not None:
+            return table, chosen, at
+    return table, chosen, None
 
 
 def eliminated(rows, wide):
@@ -54,15 +69,15 @@ def eliminated(rows, wide):
     """
     table = {}
     chosen = []
-    for at, row in enumerate(rows):
-        rest = rest_of(row, table)
-        pivot = first_pivot(rest, wide)
-        if pivot is not None:
-            table = with_row(table, rest, pivot)
-            chosen.append(at)
-        elif first_pivot(rest, len(rest)) is not None:
-            return table, chosen, at
-        if len(table) == len(row):
+    # Many rows together, since large numbers cost most, and the rows that are there change once for all of these.
+    for first in range(0, len(rows), TOGETHER):
+        rests = [rest_of(row, table) for row in rows[first:first + TOGETHER]]
+        more, added, bad = one_by_one(rests, wide)
+        table = with_table(table, more)
+        chosen.extend([first + at for at in added])
+        if bad is not None:
+            return table, chosen, first + bad
+        if len(table) == len(rows[0]):
             break
     return table, chosen, None
 
