@@ -4,6 +4,8 @@ import copy
 import unittest
 
 from leastnet.base.words import words_with
+from leastnet.nets.nets import Net
+from leastnet.seen.circles import rays_of
 
 FORTY = 10 ** 40 - 1
 
@@ -28,7 +30,12 @@ def kinds():
         [], [1], ["a"], [1, 2], ["a", "b"], [[1], [2]], [(1, 2)], [None], ["solution", ((1, 1),)],
         {}, {"a": 1}, {1: 2}, {(1, 2): []}, {None: None}, {"a": {"a": {}}},
         nested(lambda value: (value,), 12), nested(lambda value: [value], 12), nested(lambda value: {1: value}, 12),
-        words_with(("a", "b"), (1, 1)),
+        words_with(("a", "b"), (1, 1)), Net(("a",)), Net(("a", "b"), (1, (1, 0), (0, 1))), (Net(("a",)),), [Net(("a",))],
+        (("a",), 1, ()), (("a", "b"), 2, ((0, "a", 1), (1, "b", 0))), rays_of((("a",), 1, ((0, "a", 0),))),
+        ("respects", (0,)), ("breaks", (), "a"), ("falls", (), ("a",)), ("place", (0, (1,), (0,))), ("place", 0, (0, (1,), (0,))),
+        ("mixture", ((((1, 1), ()),), ())), ("mixtures", ()), ("inside", ((1, 1),), ()), ("outside", (1,), 0),
+        ("part", (), ()), ("point", 0, (1,), 0), ("ray", 0, (1,)), ((), ()), (((1,), 0),), ((((1,), 0),), ()),
+        (Net(("a",)), Net(("a",))), (Net(("a",)), 1, Net(("a",))), ("place", Net(("a",))), (((((),),),),),
     ]
 
 

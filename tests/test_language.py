@@ -67,6 +67,60 @@ INTERFACE = {
         "first_barred": "(alphabet, place, word)", "multiple": "(number, place)", "divided": "(place)",
         "sum_of_places": "(first, *others)",
     },
+    "leastnet.nets.nets": {"Net": "(alphabet, *places)"},
+    "leastnet.seen.behaviours": {
+        "is_behaviour": "(value)", "log_of": "(alphabet, *words)", "logs_from": "(alphabet, words)",
+        "behaviour_of": "(alphabet, *edges)", "behaviour_from": "(alphabet, edges)", "is_run": "(behaviour, value)",
+        "states_after": "(behaviour, word)", "followers": "(behaviour, word)", "runs": "(behaviour, *, longest)",
+        "seen_steps": "(behaviour, *, longest)", "settled": "(behaviour)", "united": "(first, *others)",
+        "all_united": "(behaviours)", "run_difference": "(first, second)",
+    },
+    "leastnet.seen.circles": {
+        "points_of": "(behaviour, action)", "all_points": "(behaviour)", "rays_of": "(behaviour)",
+        "is_circle": "(behaviour, run, value)",
+    },
+    "leastnet.seen.respect": {
+        "least_tokens": "(behaviour, place)", "respects": "(behaviour, place)", "respect_paper": "(behaviour, place)",
+        "is_respect_paper": "(behaviour, place, value)",
+    },
+    "leastnet.hulls.simplex": {
+        "hull_paper": "(points, rays, x)", "is_hull_paper": "(points, rays, x, value)", "is_inside": "(points, rays, x)",
+        "greatest": "(points, rays, u)", "in_cone": "(rays, x)",
+    },
+    "leastnet.hulls.faces": {
+        "faces": "(points, rays)", "holds_for": "(description, x)", "is_faces": "(points, rays, value)",
+        "corners": "(points, rays)", "dimension": "(points, rays)", "part_paper": "(first, second)",
+        "is_part_paper": "(first, second, value)",
+    },
+    "leastnet.steps.steps": {
+        "step_paper": "(behaviour, counts, action)", "is_step_paper": "(behaviour, counts, action, value)",
+        "is_unavoidable_step": "(behaviour, counts, action)", "place_of_bound": "(behaviour, action, u, v)",
+        "is_unavoidable": "(behaviour, word)", "word_paper": "(behaviour, word)",
+        "is_word_paper": "(behaviour, word, value)", "unavoidable_followers": "(behaviour, word)",
+    },
+    "leastnet.steps.least": {
+        "least_net": "(behaviour)", "unavoidable_words": "(behaviour, *, longest)",
+        "count_unavoidable": "(behaviour, *, longest)", "net_respects": "(behaviour, net)",
+        "net_paper": "(behaviour, net)",
+    },
+}
+CLASSES = {
+    "leastnet.nets.nets.Net": {
+        "of": "(alphabet, places)", "bound": "(alphabet, action, most)", "__call__": "(self, word)", "barred": "(self, word)",
+        "enabled": "(self, word)", "runs": "(self, *, longest=4)", "graph": "(self, *, most=150)", "__and__": "(self, other)",
+        "__contains__": "(self, value)", "__eq__": "(self, other)", "__bool__": "(self)", "__len__": "(self)",
+        "__str__": "(self)",
+    },
+}
+AT_ONCE = {"range", "zip", "enumerate", "reversed", "map"}
+VIEWS = {"items", "keys", "values"}
+ITERATING = {"list", "tuple", "dict", "sorted", "sum", "min", "max", "any", "all", "enumerate", "zip", "len", "join"}
+CHANGING = {
+    "append", "clear", "extend", "insert", "pop", "remove", "reverse", "setdefault", "update", "add", "discard",
+}
+NO_ATTRIBUTES = {
+    "items", "keys", "values", "pop", "update", "append", "clear", "extend", "insert", "remove", "reverse", "setdefault",
+    "sort", "args", "encode", "decode", "hex", "fromhex", "format", "register", "mro", "elements", "open", "input",
 }
 
 
@@ -283,7 +337,127 @@ class Names(Rules):
         self.none([(path, node) for path, node in self.nodes(ast.arg) if node.annotation is not None])
 
 
+def called(node):
+    """Return the name of what a call calls, or None."""
+    if not isinstance(node, ast.Call):
+        return None
+    return getattr(node.func, "id", getattr(node.func, "attr", None))
+
+
+def parents_of(whole):
+    """Return a dict from the nodes of a tree to their parents."""
+    return {child: node for node in ast.walk(whole) for child in ast.iter_child_nodes(node)}
+
+
+def is_iterated(node, parent):
+    """Tell whether a value is iterated over on the spot."""
+    if isinstance(parent, (ast.For, ast.comprehension)):
+        return parent.iter is node
+    return called(parent) in ITERATING or called(parent) == "reversed" and called(node) == "range"
+
+
+class Flow(Rules):
+    def test_iterated_at_once(self):
+        for path in FILES:
+            whole = tree_of(path)
+            parents = parents_of(whole)
+            for node in ast.walk(whole):
+                plain = isinstance(node, ast.Call) and isinstance(node.func, ast.Name) and node.func.id in AT_ONCE
+                view = isinstance(node, ast.Call) and isinstance(node.func, ast.Attribute) and node.func.attr in VIEWS
+                if plain or view:
+                    self.assertTrue(is_iterated(node, parents[node]), (path, node.lineno))
+
+    def generators(self):
+        """Return the names of the functions that yield."""
+        return {
+            node.name for _, node in self.nodes(ast.FunctionDef)
+            if any(isinstance(one, (ast.Yield, ast.YieldFrom)) for one in ast.walk(node))
+        }
+
+    def test_generators(self):
+        names = self.generators()
+        for path, node in self.nodes(ast.FunctionDef):
+            yields = any(isinstance(one, (ast.Yield, ast.YieldFrom)) for one in ast.walk(node))
+            self.assertEqual(yields, node.name in names, (path, node.name))
+        for path in FILES:
+            whole = tree_of(path)
+            parents = parents_of(whole)
+            for node in ast.walk(whole):
+                if isinstance(node, ast.Name) and node.id in names or isinstance(node, ast.Attribute) and node.attr in names:
+                    call = parents[node]
+                    self.assertTrue(isinstance(call, ast.Call) and is_iterated(call, parents[call]), (path, node.lineno))
+                if isinstance(node, (ast.Yield, ast.YieldFrom)):
+                    self.assertIsInstance(parents[node], ast.Expr, (path, node.lineno))
+
+    def test_no_generator_expressions(self):
+        # With an own __eq__ they may stand in hardly any place.
+        self.none(self.nodes(ast.GeneratorExp))
+
+    def test_no_sort(self):
+        self.none([(path, node) for path, node in self.nodes(ast.Attribute) if node.attr == "sort"])
+
+    def test_stars_in_calls(self):
+        for path, node in self.nodes(ast.Call):
+            self.assertEqual([one for one in node.keywords if one.arg is None], [], (path, node.lineno))
+            for one in node.args:
+                if isinstance(one, ast.Starred):
+                    self.assertIsInstance(one.value, ast.Name, (path, node.lineno))
+
+    def test_nothing_is_changed_while_it_is_iterated(self):
+        for path, node in self.nodes(ast.For):
+            names = {one.id for one in ast.walk(node.iter) if isinstance(one, ast.Name)}
+            for one in ast.walk(ast.Module(body=node.body, type_ignores=[])):
+                if called(one) in CHANGING and isinstance(one.func, ast.Attribute) and isinstance(one.func.value, ast.Name):
+                    self.assertNotIn(one.func.value.id, names, (path, one.lineno))
+                if isinstance(one, ast.Subscript) and isinstance(one.ctx, ast.Store) and isinstance(one.value, ast.Name):
+                    self.assertNotIn(one.value.id, names, (path, one.lineno))
+
+    def test_stored_sets(self):
+        for path, function in self.nodes(ast.FunctionDef):
+            for node in ast.walk(function):
+                made = isinstance(node, ast.Assign) and (isinstance(node.value, (ast.Set, ast.SetComp)) or called(node.value) == "set")
+                if not made:
+                    continue
+                name = node.targets[0].id
+                parents = parents_of(function)
+                for one in ast.walk(function):
+                    if isinstance(one, ast.Name) and one.id == name and isinstance(one.ctx, ast.Load):
+                        parent = parents[one]
+                        used = called(parent) in ("len", "sorted") or isinstance(parent, ast.Compare)
+                        used = used or isinstance(parent, ast.Attribute) and parent.attr in ("add", "discard")
+                        self.assertTrue(used, (path, one.lineno))
+
+    def test_attributes(self):
+        for path, node in self.nodes(ast.Attribute):
+            if isinstance(node.ctx, ast.Store):
+                self.assertNotIn(node.attr, NO_ATTRIBUTES, (path, node.lineno))
+                self.assertIsInstance(node.value, ast.Name, (path, node.lineno))
+                self.assertEqual(node.value.id, "self", (path, node.lineno))
+
+    def test_attributes_are_no_methods(self):
+        stored = {node.attr for _, node in self.nodes(ast.Attribute) if isinstance(node.ctx, ast.Store)}
+        methods = {node.name for _, one in self.nodes(ast.ClassDef) for node in one.body if isinstance(node, ast.FunctionDef)}
+        self.assertEqual(stored & methods, set())
+
+    def test_classes(self):
+        for path, node in self.nodes(ast.ClassDef):
+            for one in node.body:
+                plain = isinstance(one, (ast.FunctionDef, ast.Expr)) or isinstance(one.value, ast.Constant)
+                self.assertTrue(plain, (path, one.lineno))
+
+
 class Interface(unittest.TestCase):
+    def test_classes(self):
+        for full, methods in CLASSES.items():
+            module, name = full.rsplit(".", 1)
+            found = getattr(import_module(module), name)
+            for method, wanted in methods.items():
+                self.assertIn(method, found.__dict__)
+                self.assertEqual(str(inspect.signature(getattr(found, method))), wanted, method)
+        net = import_module("leastnet.nets.nets").Net
+        for name in ("alphabet", "places"):
+            self.assertIsInstance(net.__dict__[name], property)
+
     def test_signatures(self):
         for module, functions in INTERFACE.items():
             for name, wanted in functions.items():

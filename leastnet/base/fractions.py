@@ -114,9 +114,14 @@ def common_multiple(fractions):
 def blended(pairs):
     """Return the sum of the products of the fractions with their tuples of integers."""
     check_pairs(pairs)
-    common = common_multiple([fraction for fraction, _ in pairs])
-    totals = [0] * len(pairs[0][1])
-    for (top, below), row in pairs:
+    return total_of([fraction for fraction, _ in pairs], [row for _, row in pairs], len(pairs[0][1]))
+
+
+def total_of(fractions, rows, wide):
+    """Return the sum of the products of the fractions with rows of this width; none are needed."""
+    common = common_multiple(fractions)
+    totals = [0] * wide
+    for (top, below), row in zip(fractions, rows):
         factor = top * (common // below)
         totals = [total + factor * number for total, number in zip(totals, row)]
     return tuple([lowest(total, common) for total in totals])

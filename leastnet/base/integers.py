@@ -30,6 +30,12 @@ def check_at_least(value, least):
         raise InvalidNumber(value)
 
 
+def check_between(value, least, most):
+    """Raise the error of a value that is not an integer from `least` to `most`."""
+    if not is_integer(value) or not least <= value <= most:
+        raise InvalidNumber(value)
+
+
 def common_divisor(numbers):
     """Return the greatest common divisor of the numbers, 0 if all are 0."""
     common = 0

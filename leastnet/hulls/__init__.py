@@ -1,0 +1,1 @@
+"""Mixtures of points and rays, and their faces."""

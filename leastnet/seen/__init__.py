@@ -1,0 +1,1 @@
+"""What was seen: behaviours, their paths and circles, and the places that respect them."""

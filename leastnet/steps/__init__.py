@@ -1,0 +1,1 @@
+"""Unavoidable steps and words, and the least net."""
