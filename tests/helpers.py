@@ -4,8 +4,10 @@ import copy
 import unittest
 
 from leastnet.base.words import words_with
+from leastnet.learner.learner import Learner
 from leastnet.nets.nets import Net
 from leastnet.seen.circles import rays_of
+from leastnet.text.shell import Shell
 
 FORTY = 10 ** 40 - 1
 
@@ -36,6 +38,12 @@ def kinds():
         ("mixture", ((((1, 1), ()),), ())), ("mixtures", ()), ("inside", ((1, 1),), ()), ("outside", (1,), 0),
         ("part", (), ()), ("point", 0, (1,), 0), ("ray", 0, (1,)), ((), ()), (((1,), 0),), ((((1,), 0),), ()),
         (Net(("a",)), Net(("a",))), (Net(("a",)), 1, Net(("a",))), ("place", Net(("a",))), (((((),),),),),
+        Learner(("a",)), Learner(("a", "b"), one=(("a",),)), Shell(("a",)), (Learner(("a",)), Shell(("a",))), [Shell(("a",))],
+        ("covers", {}, {}), ("covers", {((0,), "a"): ()}, {}), ("covers", [], ()), ("step", (), "a", (0, (1,), (1,))),
+        ("mixtures", ((((1, 1), ()),), ()), ()), ("net", Net(("a",))), ("net", Net(("a",)), ((),)), ("unavoidable", 0, ()),
+        ("none",), ("none", ()), ("least", 0, ()), ("least", True, ()), ("falls", (), ("a",), ()), ("states", (), ("a",), ()),
+        ("action", (), "a", (((1, 1), ()),), ()), ("put", "a", ()), ("drop", "a"), (("drop", "a"),), ("graph", "a", (("a",), 1, ())),
+        {"one": ()}, {"a": (("a",), 1, ())}, "net", "put one a", "a; 1", "0; a 1 0", "1/2", "-1", "01",
     ]
 
 

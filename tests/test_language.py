@@ -103,6 +103,35 @@ INTERFACE = {
         "count_unavoidable": "(behaviour, *, longest)", "net_respects": "(behaviour, net)",
         "net_paper": "(behaviour, net)",
     },
+    "leastnet.steps.plain": {
+        "plain_paper": "(behaviour, counts, action)", "is_plain_paper": "(behaviour, counts, action, value)",
+        "is_plainly_unavoidable": "(behaviour, word)", "plain_net": "(behaviour)",
+        "first_plain_difference": "(behaviour, *, longest)",
+    },
+    "leastnet.compare.covers": {
+        "covers": "(first, second)", "cover_paper": "(first, second)", "is_cover_paper": "(first, second, value)",
+        "have_same_rules": "(first, second)",
+    },
+    "leastnet.compare.wishes": {
+        "barring": "(behaviour, *words)", "barring_all": "(behaviour, words)",
+        "is_barring": "(behaviour, words, value)", "thinned": "(behaviour, net, words)",
+    },
+    "leastnet.compare.sums": {
+        "least_sum": "(behaviour, u, *, before=None)", "is_least_sum": "(behaviour, u, value, *, before=None)",
+        "strictest_place": "(behaviour, u)", "told_sums": "(behaviour)", "told_value": "(behaviour, u, state)",
+    },
+    "leastnet.exact.exact": {
+        "exact_paper": "(behaviour)", "is_exact_paper": "(behaviour, value)", "has_exact_net": "(behaviour)",
+    },
+    "leastnet.learner.learner": {"Learner": "(alphabet, **logs)"},
+    "leastnet.text.formats": {
+        "format_word": "(alphabet, word)", "parse_word": "(alphabet, text)", "format_vector": "(vector)",
+        "parse_vector": "(text)", "format_fraction": "(fraction)", "parse_fraction": "(text)",
+        "format_place": "(alphabet, place)", "parse_place": "(alphabet, text)", "format_net": "(net)",
+        "parse_net": "(text)", "format_behaviour": "(behaviour)", "parse_behaviour": "(text)",
+        "format_step_paper": "(alphabet, paper)", "marking_table": "(net, word)",
+    },
+    "leastnet.text.shell": {"Shell": "(alphabet)"},
 }
 CLASSES = {
     "leastnet.nets.nets.Net": {
@@ -111,6 +140,23 @@ CLASSES = {
         "__contains__": "(self, value)", "__eq__": "(self, other)", "__bool__": "(self)", "__len__": "(self)",
         "__str__": "(self)",
     },
+    "leastnet.learner.learner.Learner": {
+        "of": "(alphabet, logs)", "set_longest": "(self, value)", "put": "(self, name, *words)",
+        "put_all": "(self, name, words)", "graph": "(self, name, behaviour)", "drop": "(self, name)",
+        "apply": "(self, *edits)", "apply_all": "(self, edits)", "undo": "(self, *, many=1)",
+        "redo": "(self, *, many=1)", "watch": "(self, word)", "unwatch": "(self, word)", "__call__": "(self, word)",
+        "paper": "(self, word)", "net": "(self)", "bar": "(self, *words)", "during": "(self, edits, call)",
+        "__contains__": "(self, value)", "__len__": "(self)", "__bool__": "(self)", "__eq__": "(self, other)",
+        "__str__": "(self)",
+    },
+    "leastnet.text.shell.Shell": {
+        "run": "(self, line)", "answers": "(self, *lines)", "learner": "(self)", "__len__": "(self)",
+        "__contains__": "(self, value)", "__eq__": "(self, other)", "__str__": "(self)",
+    },
+}
+PROPERTIES = {
+    "leastnet.nets.nets.Net": ("alphabet", "places"),
+    "leastnet.learner.learner.Learner": ("alphabet", "logs", "seen", "watched", "edits", "longest"),
 }
 AT_ONCE = {"range", "zip", "enumerate", "reversed", "map"}
 VIEWS = {"items", "keys", "values"}
@@ -331,7 +377,7 @@ class Names(Rules):
         own = {node.name for _, node in self.nodes(ast.FunctionDef)}
         own |= {node.attr for _, node in self.nodes(ast.Attribute) if isinstance(node.ctx, ast.Store)}
         for path, node in self.nodes(ast.Attribute):
-            self.assertIn(node.attr, METHODS | own | {"__class__", "__name__"}, (path, node.lineno))
+            self.assertIn(node.attr, METHODS | own | {"__class__", "__name__", "setter"}, (path, node.lineno))
 
     def test_annotations(self):
         self.none([(path, node) for path, node in self.nodes(ast.arg) if node.annotation is not None])
@@ -432,12 +478,38 @@ class Flow(Rules):
             if isinstance(node.ctx, ast.Store):
                 self.assertNotIn(node.attr, NO_ATTRIBUTES, (path, node.lineno))
                 self.assertIsInstance(node.value, ast.Name, (path, node.lineno))
-                self.assertEqual(node.value.id, "self", (path, node.lineno))
+                self.assertNotIn(node.value.id, bound_in(path), (path, node.lineno))
 
     def test_attributes_are_no_methods(self):
         stored = {node.attr for _, node in self.nodes(ast.Attribute) if isinstance(node.ctx, ast.Store)}
         methods = {node.name for _, one in self.nodes(ast.ClassDef) for node in one.body if isinstance(node, ast.FunctionDef)}
         self.assertEqual(stored & methods, set())
+
+    def test_operators_and_properties_change_nothing(self):
+        functions = {}
+        for _, node in self.nodes(ast.FunctionDef):
+            functions.setdefault(node.name, []).append(node)
+        todo = []
+        for _, node in self.nodes(ast.FunctionDef):
+            shown = [getattr(one, "id", None) for one in node.decorator_list]
+            if node.name[:2] == "__" and node.name not in ("__init__", "__call__") or "property" in shown:
+                todo.append(node)
+        seen = []
+        while todo:
+            node = todo.pop()
+            if node in seen:
+                continue
+            seen.append(node)
+            created = {one.targets[0].id for one in ast.walk(node) if isinstance(one, ast.Assign) and isinstance(one.targets[0], ast.Name)}
+            for one in ast.walk(node):
+                if isinstance(one, ast.Call) and called(one) in functions and called(one) not in METHODS:
+                    todo.extend(functions[called(one)])
+                if isinstance(one, (ast.Attribute, ast.Subscript)) and isinstance(one.ctx, (ast.Store, ast.Del)):
+                    self.assertIsInstance(one, ast.Subscript, (node.name, one.lineno))
+                    self.assertIn(one.value.id, created, (node.name, one.lineno))
+                if called(one) in CHANGING and isinstance(one.func, ast.Attribute):
+                    self.assertIn(one.func.value.id, created, (node.name, one.lineno))
+        self.assertIn("is_sum", [node.name for node in seen])
 
     def test_classes(self):
         for path, node in self.nodes(ast.ClassDef):
@@ -454,9 +526,11 @@ class Interface(unittest.TestCase):
             for method, wanted in methods.items():
                 self.assertIn(method, found.__dict__)
                 self.assertEqual(str(inspect.signature(getattr(found, method))), wanted, method)
-        net = import_module("leastnet.nets.nets").Net
-        for name in ("alphabet", "places"):
-            self.assertIsInstance(net.__dict__[name], property)
+        for full, names in PROPERTIES.items():
+            module, name = full.rsplit(".", 1)
+            found = getattr(import_module(module), name)
+            for one in names:
+                self.assertIsInstance(found.__dict__[one], property)
 
     def test_signatures(self):
         for module, functions in INTERFACE.items():

@@ -151,6 +151,37 @@ def exchanged(rows, steps, leaving, scale):
     return found
 
 
+def is_sum(columns, target):
+    """Tell whether the target is a sum of multiples of at least 0 of the columns; nothing is kept for later."""
+    rows = first_rows(target)
+    basis = [None] * len(target)
+    scale = 1
+    while True:
+        prices = prices_of(rows, basis)
+        if prices[0] == 0:
+            return True
+        at = dearest(columns, prices[1:])
+        if at is None:
+            return False
+        steps = [sum_of_products(row[1:], columns[at]) for row in rows]
+        leaving = leaving_row(rows, steps)
+        rows = exchanged(rows, steps, leaving, scale)
+        basis[leaving] = at
+        scale = steps[leaving]
+
+
+def dearest(columns, prices):
+    """Return the number of the column that is most worth using at these prices, or None."""
+    best = None
+    most = 0
+    for at, column in enumerate(columns):
+        worth = sum_of_products(prices, column)
+        if worth > most:
+            best = at
+            most = worth
+    return best
+
+
 class Hull:
     """Points and rays that are asked for many vectors; the bounds that were found are tried first again."""
 

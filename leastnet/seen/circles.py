@@ -66,10 +66,16 @@ def points_among(behaviour, paths, ends):
     return {counts: found[counts] for counts in sorted(found)}
 
 
+def ends_before(behaviour, action):
+    """Return a dict whose keys are the states with an edge with this action, all states for None."""
+    if action is None:
+        return {state: True for state in range(behaviour[1])}
+    return {state: True for state, other, _ in behaviour[2] if other == action}
+
+
 def points_before(behaviour, paths, action):
-    """Return the points of the action; the paths are all simple paths."""
-    ends = {state: True for state, other, _ in behaviour[2] if other == action}
-    return points_among(behaviour, paths, ends)
+    """Return the points of the action, of the behaviour for None; the paths are all simple paths."""
+    return points_among(behaviour, paths, ends_before(behaviour, action))
 
 
 def first_runs(behaviour, paths):
@@ -114,8 +120,7 @@ def all_points(behaviour):
     """Return a dict from the points of the behaviour to the first runs that have these counts."""
     check_behaviour(behaviour)
     paths, _ = walked(behaviour)
-    ends = {state: True for state in range(behaviour[1])}
-    return points_among(behaviour, paths, ends)
+    return points_before(behaviour, paths, None)
 
 
 def rays_of(behaviour):

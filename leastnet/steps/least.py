@@ -6,13 +6,13 @@ from leastnet.hulls.faces import faces
 from leastnet.nets.nets import Net
 from leastnet.seen.behaviours import LONGEST, check_behaviour
 from leastnet.seen.respect import is_respected, paper_of_place
-from leastnet.steps.mixtures import Seen
+from leastnet.steps.mixtures import seen_of
 
 
 def least_net(behaviour):
     """Return the net of the places of all faces of all actions."""
     check_behaviour(behaviour)
-    return net_of_faces(Seen(behaviour))
+    return net_of_faces(seen_of(behaviour))
 
 
 def net_of_faces(seen):
@@ -42,7 +42,7 @@ def unavoidable_words(behaviour, *, longest):
     """Yield all unavoidable words of at most so many actions, shorter ones first and then ascending."""
     check_behaviour(behaviour)
     check_between(longest, 0, LONGEST)
-    seen = Seen(behaviour)
+    seen = seen_of(behaviour)
     yield ()
     level = [((), (0,) * len(behaviour[0]))]
     for length in range(1, longest + 1):
@@ -61,7 +61,7 @@ def count_unavoidable(behaviour, *, longest):
     """Return how many unavoidable words there are of each length from 0 on."""
     check_behaviour(behaviour)
     check_between(longest, 0, LONGEST)
-    seen = Seen(behaviour)
+    seen = seen_of(behaviour)
     many = [1]
     level = {(0,) * len(behaviour[0]): 1}
     for _ in range(longest):

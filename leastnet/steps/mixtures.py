@@ -13,17 +13,22 @@ from leastnet.seen.respect import counted
 class Seen:
     """A behaviour that is asked for many steps; what was worked out for one of them is kept for the others."""
 
-    def __init__(self, behaviour):
-        paths, circles = walked(behaviour)
+    def __init__(self, behaviour, paths, rays):
         self.behaviour = behaviour
         self.paths = paths
-        self.rays = rays_among(behaviour, paths, circles)
+        self.rays = rays
         self.points = {}
         self.hulls = {}
         self.steps = {}
 
+    def afresh(self):
+        """Return the same without what was found for any steps: that has an influence on which papers are found."""
+        other = Seen(self.behaviour, self.paths, self.rays)
+        other.points = self.points
+        return other
+
     def points_of_action(self, action):
-        """Return the dict from the points of the action to runs."""
+        """Return the dict from the points of the action to runs; None stands for all points of the behaviour."""
         if action not in self.points:
             self.points[action] = points_before(self.behaviour, self.paths, action)
         return self.points[action]
@@ -36,9 +41,16 @@ class Seen:
 
     def mixture(self, counts, action):
         """Return (mixture, None) of the step, or (None, place) with a place that bars it."""
+        mixture, bound = self.mixture_or_bound(counts, action)
+        if mixture is None:
+            return None, self.barring_place(action, bound[0], bound[1])
+        return mixture, None
+
+    def mixture_or_bound(self, counts, action):
+        """Return (mixture, None) of the step, or (None, bound); runs of None need not be followed by anything."""
         multiples, bound = self.mix(counts, action)
         if multiples is None:
-            return None, self.barring_place(action, bound[0], bound[1])
+            return None, bound
         points = list(self.points_of_action(action).values())
         rays = list(self.rays.values())
         parts = []
@@ -75,6 +87,12 @@ class Seen:
         return self.steps[counts]
 
 
+def seen_of(behaviour):
+    """Return what is seen in the behaviour; too many simple paths or circles raise an error."""
+    paths, circles = walked(behaviour)
+    return Seen(behaviour, paths, rays_among(behaviour, paths, circles))
+
+
 def steps_of(alphabet, word):
     """Return the list of the steps of a word."""
     steps = []
@@ -87,23 +105,41 @@ def steps_of(alphabet, word):
 
 def is_mixture(behaviour, counts, action, value):
     """Tell whether the value is a mixture of the step; all else is known to be right."""
+    return is_mixture_along(moves_of(behaviour[0], behaviour[2]), counts, action, value)
+
+
+def is_mixture_along(moves, counts, action, value):
+    """Tell whether the value is a mixture of the step, of None one whose runs need not be followed by anything."""
     if not isinstance(value, tuple) or len(value) != 2:
         return False
     parts, circles = value
-    if not isinstance(parts, tuple) or not isinstance(circles, tuple) or len(parts) == 0:
+    if not are_parts(moves, action, parts) or not are_circles(moves, circles):
         return False
-    alphabet, _, edges = behaviour
-    moves = moves_of(alphabet, edges)
-    for part in parts:
-        if not is_part_of_mixture(moves, action, part):
-            return False
-    for circle in circles:
-        if not is_circle_of_mixture(moves, circle):
-            return False
+    alphabet = tuple(moves)
     rows = [(1, *counted(alphabet, run)) for _, run in parts]
     rows.extend([(0, *counted(alphabet, circle)) for _, _, circle in circles])
     factors = [part[0] for part in parts + circles]
     return total_of(factors, rows, len(alphabet) + 1) == as_fractions((1, *counts))
+
+
+def are_parts(moves, action, value):
+    """Tell whether the value is a tuple of one or more parts of mixtures; their sum is not looked at."""
+    if not isinstance(value, tuple) or len(value) == 0:
+        return False
+    for part in value:
+        if not is_part_of_mixture(moves, action, part):
+            return False
+    return True
+
+
+def are_circles(moves, value):
+    """Tell whether the value is a tuple of circles of mixtures."""
+    if not isinstance(value, tuple):
+        return False
+    for circle in value:
+        if not is_circle_of_mixture(moves, circle):
+            return False
+    return True
 
 
 def is_above_zero(value):
@@ -120,7 +156,10 @@ def is_part_of_mixture(moves, action, value):
     """Tell whether the value is a pair of a weight and a run that is followed by the action."""
     if not isinstance(value, tuple) or len(value) != 2 or not is_above_zero(value[0]):
         return False
-    return any([state in moves[action] for state in states_of_run(moves, value[1])])
+    states = states_of_run(moves, value[1])
+    if action is None:
+        return len(states) > 0
+    return any([state in moves[action] for state in states])
 
 
 def is_circle_of_mixture(moves, value):

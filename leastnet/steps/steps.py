@@ -5,8 +5,8 @@ from leastnet.base.words import check_action, check_counts, check_word, is_vecto
 from leastnet.errors import Avoidable, InvalidOperation, InvalidVector
 from leastnet.nets.places import tokens_at
 from leastnet.seen.behaviours import check_behaviour
-from leastnet.seen.respect import is_place_of, is_respected
-from leastnet.steps.mixtures import Seen, is_mixture, steps_of
+from leastnet.seen.respect import counted, is_place_of, is_respected
+from leastnet.steps.mixtures import is_mixture, seen_of, steps_of
 
 
 def check_step(behaviour, counts, action):
@@ -19,7 +19,7 @@ def check_step(behaviour, counts, action):
 def step_paper(behaviour, counts, action):
     """Return a paper that shows whether the step is unavoidable."""
     check_step(behaviour, counts, action)
-    mixture, place = Seen(behaviour).mixture(counts, action)
+    mixture, place = seen_of(behaviour).mixture(counts, action)
     return ("place", place) if mixture is None else ("mixture", mixture)
 
 
@@ -44,7 +44,7 @@ def is_barring_place(behaviour, counts, action, value):
 def is_unavoidable_step(behaviour, counts, action):
     """Tell whether every place that respects the behaviour allows the step."""
     check_step(behaviour, counts, action)
-    return Seen(behaviour).mix(counts, action)[1] is None
+    return seen_of(behaviour).mix(counts, action)[1] is None
 
 
 def place_of_bound(behaviour, action, u, v):
@@ -54,7 +54,7 @@ def place_of_bound(behaviour, action, u, v):
     if not is_vector(u) or len(u) != len(behaviour[0]):
         raise InvalidVector("not a vector of the alphabet")
     check_integer(v)
-    seen = Seen(behaviour)
+    seen = seen_of(behaviour)
     for point in seen.points_of_action(action):
         if sum_of_products(u, point) > v:
             raise InvalidOperation("a point of the action is beyond the bound")
@@ -68,7 +68,15 @@ def is_unavoidable(behaviour, word):
     """Tell whether all steps of the word are unavoidable."""
     check_behaviour(behaviour)
     check_word(behaviour[0], word)
-    return first_avoidable(Seen(behaviour), word)[0] is None
+    return is_word_unavoidable(seen_of(behaviour), word)
+
+
+def is_word_unavoidable(seen, word):
+    """Tell whether all steps of what is known to be a word are unavoidable."""
+    for counts, action in steps_of(seen.behaviour[0], word):
+        if seen.mix(counts, action)[1] is not None:
+            return False
+    return True
 
 
 def first_avoidable(seen, word):
@@ -84,7 +92,7 @@ def word_paper(behaviour, word):
     """Return a paper that shows whether the word is unavoidable."""
     check_behaviour(behaviour)
     check_word(behaviour[0], word)
-    return paper_of_word(Seen(behaviour), word)
+    return paper_of_word(seen_of(behaviour), word)
 
 
 def paper_of_word(seen, word):
@@ -126,9 +134,13 @@ def unavoidable_followers(behaviour, word):
     """Return the actions that can be put behind the word so that it is still unavoidable, ascending."""
     check_behaviour(behaviour)
     check_word(behaviour[0], word)
-    seen = Seen(behaviour)
+    seen = seen_of(behaviour)
     _, place = first_avoidable(seen, word)
     if place is not None:
         raise Avoidable(place)
-    counts = tuple([word.count(action) for action in behaviour[0]])
-    return tuple([action for action, _ in seen.steps_from(counts)])
+    return followers_of(seen, word)
+
+
+def followers_of(seen, word):
+    """Return the actions whose step behind the word is unavoidable, ascending."""
+    return tuple([action for action, _ in seen.steps_from(counted(seen.behaviour[0], word))])

@@ -1,0 +1,1 @@
+"""Behaviours compared, words to be barred, sums over runs."""

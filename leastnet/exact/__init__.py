@@ -1,0 +1,1 @@
+"""Nets that have exactly the states of a behaviour."""

@@ -1,0 +1,1 @@
+"""A learner that keeps logs."""
