@@ -41,9 +41,9 @@ def kinds():
         Learner(("a",)), Learner(("a", "b"), one=(("a",),)), Shell(("a",)), (Learner(("a",)), Shell(("a",))), [Shell(("a",))],
         ("covers", {}, {}), ("covers", {((0,), "a"): ()}, {}), ("covers", [], ()), ("step", (), "a", (0, (1,), (1,))),
         ("mixtures", ((((1, 1), ()),), ()), ()), ("net", Net(("a",))), ("net", Net(("a",)), ((),)), ("unavoidable", 0, ()),
-        ("none",), ("none", ()), ("least", 0, ()), ("least", True, ()), ("falls", (), ("a",), ()), ("states", (), ("a",), ()),
+        ("none", ()), ("least", 0, ()), ("least", True, ()), ("falls", (), ("a",), ()), ("states", (), ("a",), ()),
         ("action", (), "a", (((1, 1), ()),), ()), ("put", "a", ()), ("drop", "a"), (("drop", "a"),), ("graph", "a", (("a",), 1, ())),
-        {"one": ()}, {"a": (("a",), 1, ())}, "net", "put one a", "a; 1", "0; a 1 0", "1/2", "-1", "01",
+        {"one": ()}, {"a": (("a",), 1, ())}, "net ", "put one a", "a; 1", "0; a 1 0", "1/2", "-1", "01",
     ]
 
 

@@ -116,7 +116,9 @@ class Least(Case):
 
     def test_any_value(self):
         self.answers(lambda value: is_least_sum(NOTHING, (1,), value), lambda value: same(value, ("least", 0, ())))
-        self.answers(lambda value: is_least_sum(NOTHING, (1,), value, before="a"), lambda value: same(value, ("none",)))
+        self.answers(lambda value: is_least_sum(NOTHING, (1,), value, before="a"), lambda value: False)
+        self.assertIs(is_least_sum(NOTHING, (1,), ("none",), before="a"), True)
+        self.assertIs(is_least_sum(NOTHING, (1,), ("none",)), False)
         self.answers(lambda value: is_least_sum(LOOP, (-1,), value), lambda value: same(value, ("falls", (), ("a",), ())))
         self.answers(lambda value: is_least_sum(LOOP, (1,), ("least", value, ())), lambda value: same(value, 0))
         self.answers(lambda value: is_least_sum(LOOP, (0,), ("least", 0, value)), lambda value: papers.is_word(("a",), value))

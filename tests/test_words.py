@@ -74,7 +74,7 @@ class Alphabets(Case):
     def test_kinds(self):
         is_one = {"a": True, "ab": True, "abcdefgh": True, "solution": True}
         self.refuses(InvalidAlphabet, make_alphabet, lambda value: isinstance(value, str) and value in is_one)
-        self.refuses(InvalidAlphabet, alphabet_from, lambda value: value in (*ONES, ("b", "a"), ("a", "a")))
+        self.refuses(InvalidAlphabet, alphabet_from, lambda value: value in (*ONES, ("b", "a"), ("a", "a"), ("drop", "a")))
         for value in kinds():
             if not (isinstance(value, str) and value in is_one):
                 self.fails(InvalidAlphabet, make_alphabet, "a", value)
