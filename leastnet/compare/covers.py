@@ -34,9 +34,8 @@ def have_same_rules(first, second):
 def are_points_covered(one, other):
     """Tell whether the points of all actions of the other one are inside those of this one and its rays."""
     for action in one.behaviour[0]:
-        known = one.points_of_action(action)
         for point in other.points_of_action(action):
-            if point not in known and one.mix(point, action)[1] is not None:
+            if not one.allows(point, action):
                 return False
     return True
 
@@ -81,12 +80,12 @@ def step_beyond(one, run, circle):
     first = counted(alphabet, run)
     ray = counted(alphabet, circle)
     most = 1
-    while one.mix(along(first, ray, most), action)[1] is None:
+    while one.allows(along(first, ray, most), action):
         most = 2 * most
     least = most // 2
     while most - least > 1:
         middle = (least + most) // 2
-        if one.mix(along(first, ray, middle), action)[1] is None:
+        if one.allows(along(first, ray, middle), action):
             least = middle
         else:
             most = middle

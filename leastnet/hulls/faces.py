@@ -2,10 +2,10 @@
 
 from leastnet.base.fractions import total_of
 from leastnet.base.integers import common_divisor, divided_by, is_integer, sum_of_products
-from leastnet.base.rows import first_pivot, null_rows, shortened
+from leastnet.base.rows import first_pivot, null_rows, reduced_rows, shortened
 from leastnet.base.words import is_vector
 from leastnet.errors import InvalidPoints, TooMany
-from leastnet.hulls.cones import Cone
+from leastnet.hulls.cones import facets_of_cone
 from leastnet.hulls.simplex import Hull, Mixer, are_multiples, as_fractions, check_length, check_some, cone_multiples
 from leastnet.hulls.simplex import is_bound, is_direction, is_inside_paper, paper_inside, width_of
 
@@ -29,50 +29,6 @@ def equations_of(points, rays):
     return tuple([(u, sum_of_products(u, first)) for u in null_rows(rows)])
 
 
-def free_columns(equations, wide):
-    """Return the ascending list of the positions that are no pivots of the equations."""
-    pivots = [first_pivot(u, wide) for u, _ in equations]
-    return [column for column in range(wide) if column not in pivots]
-
-
-def picked(free, vector):
-    """Return the numbers of the vector at the free positions."""
-    return tuple([vector[column] for column in free])
-
-
-def placed(free, numbers, wide):
-    """Return the vector that has these numbers at the free positions, and 0 at all others."""
-    vector = [0] * wide
-    for column, number in zip(free, numbers):
-        vector[column] = number
-    return tuple(vector)
-
-
-def facet_rows(points, rays, free, most):
-    """Return the rows of the facets of the cone of all points, behind a 1, and all rays, behind a 0.
-
-    Only the free positions are looked at: the others follow from them by the equations.
-    """
-    vectors = [(1, *picked(free, point)) for point in sorted(set(points))]
-    vectors.extend(sorted({(0, *shortened(picked(free, ray))) for ray in rays}))
-    cone = Cone(vectors, most, MAX_FACES)
-    return list(cone.facets(tuple(range(len(vectors))), len(free) + 1).values())
-
-
-def inequalities_of(points, rays, equations):
-    """Return the inequalities of the faces."""
-    wide = len(points[0])
-    free = free_columns(equations, wide)
-    found = []
-    # One facet may be there for rays alone, far away from all points: it is no face.
-    for row in facet_rows(points, rays, free, MAX_FACES + 1 - len(equations)):
-        divisor = common_divisor(row[1:])
-        if divisor > 0:
-            u = tuple([-number for number in divided_by(divisor, row[1:])])
-            found.append((placed(free, u, wide), row[0] // divisor))
-    return tuple(sorted(found))
-
-
 def faces(points, rays):
     """Return the pair of the equations and the inequalities of all that is inside."""
     check_few(points, rays)
@@ -81,11 +37,42 @@ def faces(points, rays):
 
 def few_faces(points, rays):
     """Return the faces of what are known to be points and rays, and not too many."""
-    equations = equations_of(points, rays)
-    inequalities = inequalities_of(points, rays, equations)
+    lines, rows = facets_of_cone(vectors_of(points, rays), MAX_FACES + 1, MAX_FACES)
+    equations = equations_of_lines(lines)
+    inequalities = inequalities_of_rows(rows, equations)
     if len(equations) + len(inequalities) > MAX_FACES:
         raise TooMany(MAX_FACES)
     return equations, inequalities
+
+
+def vectors_of(points, rays):
+    """Return all points, behind a 1, and all rays, behind a 0."""
+    vectors = [(1, *point) for point in sorted(set(points))]
+    vectors.extend([(0, *ray) for ray in sorted({shortened(ray) for ray in rays})])
+    return vectors
+
+
+def equations_of_lines(lines):
+    """Return the equations that the lines of the cone of all points and rays stand for."""
+    if not lines:
+        return ()
+    return tuple([(row[:-1], -row[-1]) for row in reduced_rows([(*line[1:], line[0]) for line in lines])])
+
+
+def inequalities_of_rows(rows, equations):
+    """Return the inequalities that the rows of the facets of this cone stand for."""
+    found = []
+    pivots = [(first_pivot(u, len(u)), u, v) for u, v in equations]
+    for row in rows:
+        bound = [*[-number for number in row[1:]], row[0]]
+        for pivot, u, v in pivots:
+            factor = bound[pivot]
+            bound = [u[pivot] * number - factor * less for number, less in zip(bound, (*u, v))]
+        # One facet may be there for rays alone, far away from all points: it is no face.
+        divisor = common_divisor(bound[:-1])
+        if divisor > 0:
+            found.append((divided_by(divisor, bound[:-1]), bound[-1] // divisor))
+    return tuple(sorted(found))
 
 
 def bounds_in(description):

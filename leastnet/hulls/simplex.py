@@ -4,6 +4,10 @@ from leastnet.base.fractions import is_fraction, lowest, total_of
 from leastnet.base.integers import common_divisor, divided_by, is_integer, sum_of_products
 from leastnet.base.words import is_counts, is_vector
 from leastnet.errors import InvalidPoints, InvalidVector
+from leastnet.hulls.cones import described
+
+# After so many questions it is worth looking for the facets, if there are at most so many of them.
+FACETS = {4: 40, 20: 100}
 
 
 def width_of(points, rays):
@@ -190,6 +194,22 @@ class Hull:
         self.rays = rays
         self.mixer = Mixer([(1, *point) for point in points] + [(0, *ray) for ray in rays])
         self.bounds = []
+        self.asked = 0
+        self.cone = None
+
+    def has(self, x):
+        """Tell whether x is inside; where this is asked often, all facets answer it, if there are few of them."""
+        self.asked += 1
+        if self.cone is None and self.asked in FACETS and self.points:
+            self.cone = described(self.mixer.columns, FACETS[self.asked])
+        if self.cone is None:
+            return self.mix(x)[1] is None
+        lines, rows = self.cone
+        vector = (1, *x)
+        for row in rows:
+            if sum_of_products(row, vector) < 0:
+                return False
+        return all([sum_of_products(line, vector) == 0 for line in lines])
 
     def mix(self, x):
         """Return (multiples, None) or (None, bound): multiples of points and rays, or the pair (u, v) of [7.1]."""

@@ -2,6 +2,10 @@
 
 from leastnet.errors import TooMany
 
+TOGETHER = 6
+ALL_TOGETHER = 63
+MAX_BITS = 64
+
 
 def moves_of(alphabet, edges):
     """Return for each action a dict from states to the ascending list of the states to which its edges lead."""
@@ -48,25 +52,86 @@ def beside(behaviours):
     return edges, tuple(starts)
 
 
-def set_rows(moves, start, most):
+def single_targets(table):
+    """Return a dict from states to the one state to which each leads, None if there are two anywhere."""
+    if any([len(targets) > 1 for targets in table.values()]):
+        return None
+    return {state: targets[0] for state, targets in table.items()}
+
+
+class Steps:
+    """The steps of one action, from sets of few states that are told by the bits of a number.
+
+    Some bits together are looked up, in dicts that are filled as far as is needed.
+    """
+
+    def __init__(self, table, size):
+        self.masks = [0] * (size + TOGETHER)
+        for state, targets in table.items():
+            for target in targets:
+                self.masks[state] = self.masks[state] | 1 << target
+        self.known = [{0: 0} for _ in range(size // TOGETHER + 1)]
+
+    def behind(self, states):
+        """Return the set of the states to which edges lead from these states."""
+        found = 0
+        for at, known in enumerate(self.known):
+            low = states & ALL_TOGETHER
+            if low not in known:
+                self._look_up(at, low)
+            found = found | known[low]
+            states = states >> TOGETHER
+        return found
+
+    def _look_up(self, at, low):
+        """Fill in what follows these bits at this position."""
+        found = 0
+        for bit in range(TOGETHER):
+            if low >> bit & 1:
+                found = found | self.masks[at * TOGETHER + bit]
+        self.known[at][low] = found
+
+
+def set_rows(moves, size, starts, most):
     """Return a row for each set of states that runs lead to, in the order of their first runs.
 
-    A row has for each action the number of the next set, or -1. More than `most` sets raise an error.
+    A row has for each action the number of the next set, or -1. More than `most` sets raise an error. The starts
+    belong to graphs that stand beside one another, in ascending order, with so many states together.
     """
-    numbers = {start: 0}
+    tables = list(moves.values())
+    single = [single_targets(table) for table in tables]
+    if all([table is not None for table in single]):
+        # Of each graph there is one state at most, so they are different and ascending already.
+        return rows_of_sets(starts, (), lambda states: [single_following(table, states) for table in single], most)
+    if size > MAX_BITS:
+        return rows_of_sets(starts, (), lambda states: [following(table, states) for table in tables], most)
+    steps = [Steps(table, size) for table in tables]
+    first = sum([1 << start for start in starts])
+    return rows_of_sets(first, 0, lambda states: [step.behind(states) for step in steps], most)
+
+
+def single_following(table, states):
+    """Return the tuple of the states to which states lead, each of them to one at most."""
+    return tuple([table[state] for state in states if state in table])
+
+
+def rows_of_sets(start, empty, behind, most):
+    """Return the rows of the sets that are found from the start; `behind` gives what follows a set, by each action."""
+    numbers = {start: 0, empty: -1}
     order = [start]
     rows = []
     while len(rows) < len(order):
-        states = order[len(rows)]
         row = []
-        for move in moves.values():
-            further = following(move, states)
-            if further and further not in numbers:
-                if len(order) == most:
+        found = behind(order[len(rows)])
+        for further in found:
+            number = numbers.get(further)
+            if number is None:
+                number = len(order)
+                if number == most:
                     raise TooMany(most)
-                numbers[further] = len(order)
+                numbers[further] = number
                 order.append(further)
-            row.append(numbers[further] if further else -1)
+            row.append(number)
         rows.append(row)
     return rows
 
@@ -86,31 +151,33 @@ def tree_rows(alphabet, words):
     return rows
 
 
-def kinds_behind(kinds, row):
-    """Return the kinds of the rows that a row leads to, -1 where there is none."""
-    return tuple([kinds[other] if other >= 0 else -1 for other in row])
-
-
 def kinds_of_tree(rows, most):
-    """Return for each row of a tree a number that it shares with exactly the rows that allow the same words."""
-    kinds = [-1] * len(rows)
+    """Return for each row of a tree a number that it shares with exactly the rows that allow the same words.
+
+    As of the next function, behind them stands a -1, which so is also what is found at the position -1.
+    """
+    kinds = [-1] * (len(rows) + 1)
     known = {}
     for at in reversed(range(len(rows))):
-        kinds[at] = known.setdefault(kinds_behind(kinds, rows[at]), len(known))
+        behind = tuple([kinds[other] for other in rows[at]])
+        kinds[at] = known.setdefault(behind, len(known))
     if len(known) > most:
         raise TooMany(most)
     return kinds
 
 
 def kinds_of_rows(rows, most):
-    """Return for each row a number that it shares with exactly the rows that allow the same words."""
-    kinds = [0] * len(rows)
+    """Return for each row a number that it shares with exactly the rows that allow the same words, and then -1."""
+    columns = list(zip(*rows))
+    kinds = [0] * len(rows) + [-1]
     many = 1
     while True:
         known = {}
         finer = []
-        for kind, row in zip(kinds, rows):
-            finer.append(known.setdefault((kind, kinds_behind(kinds, row)), len(known)))
+        behind = [[kinds[other] for other in column] for column in columns]
+        for key in zip(kinds, *behind):
+            finer.append(known.setdefault(key, len(known)))
+        finer.append(-1)
         # Kinds are only ever divided, so these are too many already.
         if len(known) > most:
             raise TooMany(most)
@@ -124,7 +191,8 @@ def settled_form(alphabet, rows, kinds):
     """Return the behaviour with a state for each kind, numbered by the first words that lead to it."""
     behind = {}
     for kind, row in zip(kinds, rows):
-        behind.setdefault(kind, kinds_behind(kinds, row))
+        if kind not in behind:
+            behind[kind] = [kinds[other] for other in row]
     order = [kinds[0]]
     numbers = {kinds[0]: 0}
     edges = []

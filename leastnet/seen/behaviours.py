@@ -226,29 +226,46 @@ def united_form(behaviours):
     """Return the settled behaviour with the runs of all of what are known to be behaviours."""
     alphabet = behaviours[0][0]
     edges, starts = beside(behaviours)
-    rows = set_rows(moves_of(alphabet, edges), starts, MAX_SETS)
+    size = sum([behaviour[1] for behaviour in behaviours])
+    rows = set_rows(moves_of(alphabet, edges), size, starts, MAX_SETS)
     return settled_form(alphabet, rows, kinds_of_rows(rows, MAX_STATES))
 
 
 def run_difference(first, second):
     """Return the first word, by length and then ascending, that is a run of one of the two only, or None."""
     check_together((first, second))
-    alphabet = first[0]
-    one = moves_of(alphabet, first[2])
-    other = moves_of(alphabet, second[2])
-    todo = [((), (0,), (0,))]
-    seen = {((0,), (0,)): True}
+    one = list(moves_of(first[0], first[2]).values())
+    other = list(moves_of(first[0], second[2]).values())
+    # What follows a set of states is found once, since it comes in many pairs.
+    behind_one = {}
+    behind_other = {}
+    todo = [((0,), (0,))]
+    came = [None]
+    seen = {todo[0]: True}
     at = 0
     while at < len(todo):
-        word, left, right = todo[at]
-        at += 1
-        for action in alphabet:
-            pair = following(one[action], left), following(other[action], right)
-            if bool(pair[0]) != bool(pair[1]):
-                return (*word, action)
-            if pair[0] and pair not in seen:
+        left, right = todo[at]
+        if left not in behind_one:
+            behind_one[left] = [following(move, left) for move in one]
+        if right not in behind_other:
+            behind_other[right] = [following(move, right) for move in other]
+        for action, pair in zip(first[0], list(zip(behind_one[left], behind_other[right]))):
+            if (len(pair[0]) == 0) != (len(pair[1]) == 0):
+                return word_back(came, at, action)
+            if pair not in seen and len(pair[0]) > 0:
                 if len(seen) == MAX_SETS:
                     raise TooMany(MAX_SETS)
                 seen[pair] = True
-                todo.append(((*word, action), *pair))
+                todo.append(pair)
+                came.append((at, action))
+        at += 1
     return None
+
+
+def word_back(came, at, action):
+    """Return the word that leads to a pair, with an action behind it; `came` has what each pair came from."""
+    actions = [action]
+    while came[at] is not None:
+        at, before = came[at]
+        actions.append(before)
+    return tuple(actions[::-1])

@@ -6,6 +6,8 @@ from leastnet.seen.automata import led_to, moves_of
 from leastnet.seen.behaviours import check_behaviour, check_run, one_more
 
 MAX_PATHS = 5000
+SOME_PATHS = 500
+SOME_STATES = 10
 
 
 def leaving_edges(behaviour):
@@ -33,6 +35,7 @@ def walked(behaviour):
     paths = []
     circles = {}
     many = 1
+    counted = False
     todo = [((0,), (0,) * len(behaviour[0]), ())]
     while todo:
         states, counts, taken = todo.pop()
@@ -44,9 +47,59 @@ def walked(behaviour):
             else:
                 many += 1
                 todo.append(((*states, target), one_more(counts, at), (*taken, number)))
+        if not counted and many + len(circles) > SOME_PATHS:
+            # Where there are far too many, this is quicker than to walk along all of them.
+            counted = True
+            if are_too_many(leaving):
+                raise TooMany(MAX_PATHS)
         if many > MAX_PATHS or len(circles) > MAX_PATHS:
             raise TooMany(MAX_PATHS)
     return paths, list(circles)
+
+
+def are_too_many(leaving):
+    """Tell whether too many simple paths keep to an order of the states, or too many circles with one edge back.
+
+    If not, there can be too many nevertheless.
+    """
+    order = states_in_order(leaving)
+    places = {state: place for place, state in enumerate(order)}
+    if sum(list(ways_from(leaving, order, places, 0).values())) > MAX_PATHS:
+        return True
+    many = 0
+    for first in order[:SOME_STATES]:
+        for state, ways in ways_from(leaving, order, places, first).items():
+            many = many + ways * len([True for _, _, target in leaving[state] if target == first])
+    return many > MAX_PATHS
+
+
+def states_in_order(leaving):
+    """Return the list of all states in an order in which few edges lead back, none of them without circles."""
+    order = []
+    found = {0: True}
+    todo = [(0, 0)]
+    while todo:
+        state, at = todo.pop()
+        if at == len(leaving[state]):
+            order.append(state)
+        else:
+            todo.append((state, at + 1))
+            target = leaving[state][at][2]
+            if target not in found:
+                found[target] = True
+                todo.append((target, 0))
+    return order[::-1]
+
+
+def ways_from(leaving, order, places, first):
+    """Return a dict from states to the numbers of the paths from the first one to them that keep to the order."""
+    ways = {first: 1}
+    for state in order[places[first]:]:
+        if state in ways:
+            for _, _, target in leaving[state]:
+                if places[target] > places[state]:
+                    ways[target] = ways.get(target, 0) + ways[state]
+    return ways
 
 
 def word_along(behaviour, taken):

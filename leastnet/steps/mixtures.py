@@ -33,11 +33,19 @@ class Seen:
             self.points[action] = points_before(self.behaviour, self.paths, action)
         return self.points[action]
 
-    def mix(self, counts, action):
-        """Return (multiples, None) or (None, bound), as a hull does, for the points of the action and the rays."""
+    def _hull(self, action):
+        """Return the hull of the points of the action and the rays."""
         if action not in self.hulls:
             self.hulls[action] = Hull(tuple(self.points_of_action(action)), tuple(self.rays))
-        return self.hulls[action].mix(counts)
+        return self.hulls[action]
+
+    def bound(self, counts, action):
+        """Return the pair (u, v) by which the step can be barred, None for an unavoidable one."""
+        return None if counts in self.points_of_action(action) else self._hull(action).mix(counts)[1]
+
+    def allows(self, counts, action):
+        """Tell whether the step is unavoidable, and for None whether the counts are inside all points and rays."""
+        return counts in self.points_of_action(action) or self._hull(action).has(counts)
 
     def mixture(self, counts, action):
         """Return (mixture, None) of the step, or (None, place) with a place that bars it."""
@@ -48,10 +56,13 @@ class Seen:
 
     def mixture_or_bound(self, counts, action):
         """Return (mixture, None) of the step, or (None, bound); runs of None need not be followed by anything."""
-        multiples, bound = self.mix(counts, action)
+        known = self.points_of_action(action)
+        if counts in known:
+            return ((((1, 1), known[counts]),), ()), None
+        multiples, bound = self._hull(action).mix(counts)
         if multiples is None:
             return None, bound
-        points = list(self.points_of_action(action).values())
+        points = list(known.values())
         rays = list(self.rays.values())
         parts = []
         circles = []
@@ -82,7 +93,7 @@ class Seen:
         if counts not in self.steps:
             self.steps[counts] = [
                 (action, one_more(counts, at)) for at, action in enumerate(self.behaviour[0])
-                if self.mix(counts, action)[1] is None
+                if self.allows(counts, action)
             ]
         return self.steps[counts]
 

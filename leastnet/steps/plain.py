@@ -46,7 +46,7 @@ def is_plain_paper(behaviour, counts, action, value):
 
 def is_plain_step(seen, counts, at):
     """Tell whether the step of the action at this position is plainly unavoidable."""
-    return seen.mix(counts, None)[1] is None and seen.mix(one_more(counts, at), None)[1] is None
+    return seen.allows(counts, None) and seen.allows(one_more(counts, at), None)
 
 
 def is_plainly_unavoidable(behaviour, word):

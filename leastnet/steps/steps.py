@@ -44,7 +44,7 @@ def is_barring_place(behaviour, counts, action, value):
 def is_unavoidable_step(behaviour, counts, action):
     """Tell whether every place that respects the behaviour allows the step."""
     check_step(behaviour, counts, action)
-    return seen_of(behaviour).mix(counts, action)[1] is None
+    return seen_of(behaviour).allows(counts, action)
 
 
 def place_of_bound(behaviour, action, u, v):
@@ -74,7 +74,7 @@ def is_unavoidable(behaviour, word):
 def is_word_unavoidable(seen, word):
     """Tell whether all steps of what is known to be a word are unavoidable."""
     for counts, action in steps_of(seen.behaviour[0], word):
-        if seen.mix(counts, action)[1] is not None:
+        if not seen.allows(counts, action):
             return False
     return True
 
@@ -82,7 +82,7 @@ def is_word_unavoidable(seen, word):
 def first_avoidable(seen, word):
     """Return the position of the first avoidable step and a place that bars it, or (None, None)."""
     for position, (counts, action) in enumerate(steps_of(seen.behaviour[0], word)):
-        bound = seen.mix(counts, action)[1]
+        bound = seen.bound(counts, action)
         if bound is not None:
             return position, seen.barring_place(action, bound[0], bound[1])
     return None, None
