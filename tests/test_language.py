@@ -485,6 +485,20 @@ class Flow(Rules):
         methods = {node.name for _, one in self.nodes(ast.ClassDef) for node in one.body if isinstance(node, ast.FunctionDef)}
         self.assertEqual(stored & methods, set())
 
+    def test_names_of_class_methods_and_properties(self):
+        stored = {node.attr for _, node in self.nodes(ast.Attribute) if isinstance(node.ctx, ast.Store)}
+        kinds = {"classmethod": set(), "property": set(), "plain": set()}
+        for _, one in self.nodes(ast.ClassDef):
+            for node in one.body:
+                if isinstance(node, ast.FunctionDef):
+                    shown = [getattr(made, "id", "property") for made in node.decorator_list] or ["plain"]
+                    kinds[shown[0]].add(node.name)
+                elif isinstance(node, ast.Assign):
+                    kinds["plain"].add(node.targets[0].id)
+        for first, second in (("classmethod", "property"), ("classmethod", "plain"), ("property", "plain")):
+            self.assertEqual(kinds[first] & kinds[second], set())
+        self.assertEqual((kinds["classmethod"] | kinds["property"]) & (stored | METHODS), set())
+
     def test_operators_and_properties_change_nothing(self):
         functions = {}
         for _, node in self.nodes(ast.FunctionDef):

@@ -39,7 +39,7 @@ class Seen:
             self.hulls[action] = Hull(tuple(self.points_of_action(action)), tuple(self.rays))
         return self.hulls[action]
 
-    def bound(self, counts, action):
+    def bound_of_step(self, counts, action):
         """Return the pair (u, v) by which the step can be barred, None for an unavoidable one."""
         return None if counts in self.points_of_action(action) else self._hull(action).mix(counts)[1]
 

@@ -82,7 +82,7 @@ def is_word_unavoidable(seen, word):
 def first_avoidable(seen, word):
     """Return the position of the first avoidable step and a place that bars it, or (None, None)."""
     for position, (counts, action) in enumerate(steps_of(seen.behaviour[0], word)):
-        bound = seen.bound(counts, action)
+        bound = seen.bound_of_step(counts, action)
         if bound is not None:
             return position, seen.barring_place(action, bound[0], bound[1])
     return None, None
