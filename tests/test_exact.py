@@ -261,6 +261,10 @@ class Papers(Case):
         self.assertIs(is_exact_paper(LOOP, ("net", Net(("a",), (0, (0,), (1,))), ((0,),))), False)
         self.assertIs(is_exact_paper(LOOP, ("net", Net(("a",), (0, (1,), (1,))), ((0,),))), False)
         self.assertIs(is_exact_paper(NOTHING, ("net", Net(("a",)), ((),))), False)
+        # Different states have different markings.
+        both = behaviour_of(("a",), (0, "a", 1), (1, "a", 0))
+        self.assertIs(is_exact_paper(both, ("net", Net(("a",)), ((), ()))), False)
+        self.assertIs(is_exact_paper(both, ("net", Net(("a",), (5, (1,), (1,))), ((5,), (5,)))), False)
 
     def test_pairs(self):
         alphabet = ("a", "b", "c")

@@ -194,7 +194,7 @@ class Writing(Case):
         self.same(format_step_paper(AB, ("mixture", ((((1, 1), long),), ()))), "mixture 1 * " + " ".join(long))
         self.same(format_step_paper(AB, ("place", (0, (0, 0), (0, 0)))), "place 0; a 0 0, b 0 0")
         part = ((1, 1), ("a",))
-        for wrong in (("mixture", ((), ())), ("mixture", ((part,),)), ("mixture", ((part,), (), ())), ("mixture", ([part], ())), ("mixture", ((part,), [])),
+        for wrong in (("mixture", ((), ())), ("mixture", [(part,), ()]), ("mixture", ((part,),)), ("mixture", ((part,), (), ())), ("mixture", ([part], ())), ("mixture", ((part,), [])),
                       ("mixture", ((((0, 1), ("a",)),), ())), ("mixture", ((((-1, 1), ("a",)),), ())), ("mixture", ((((2, 2), ("a",)),), ())),
                       ("mixture", ((((1, 1), ("x",)),), ())), ("mixture", ((((1, 1), ["a"]),), ())), ("mixture", ((((1, 1), "a"),), ())), ("mixture", ((part + ((),),), ())),
                       ("mixture", ((part,), (((1, 1), (), ()),))), ("mixture", ((part,), (((1, 1), ("a",)),))), ("mixture", ((part,), (((0, 1), (), ("a",)),))),

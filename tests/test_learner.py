@@ -341,6 +341,23 @@ class Learning(Case):
             self.assertIs(Learner(("a",)) == value, isinstance(value, Learner) and value.alphabet == ("a",) and not value)
             self.assertIs(Learner(CP) == value, False)
 
+    def test_equal_learners_that_have_seen_other_runs(self):
+        others = 0
+        chance = random.Random(287)
+        for behaviour in [*behaviours(288, 150), behaviour_of(AB, (0, "a", 0), (0, "a", 1), (1, "b", 0)), TURN]:
+            alphabet = behaviour[0]
+            more = tuple(word for word in words(alphabet, 4) if is_unavoidable(behaviour, word))
+            one, other = Learner(alphabet, log=behaviour), Learner(alphabet, log=behaviour, more=more)
+            others += one.seen != other.seen
+            self.assertTrue(one == other)
+            self.assertTrue(other == one)
+            less = [word for word in words(alphabet, 4) if not is_unavoidable(behaviour, word)]
+            if less:
+                other.put("less", chance.choice(less))
+                self.assertFalse(one == other)
+                self.assertFalse(other == one)
+        self.assertTrue(others > 10, others)
+
     def test_names(self):
         learner = Learner(("a",), one=(), a=())
         for value in kinds():
@@ -446,6 +463,10 @@ class Longest(Case):
         self.fails(InvalidWord, learner.put, "three", ("a",))
         self.same(learner.put("three", (), ()), ())
         self.same(learner.graph("four", TURN_AB), ())
+        learner = Learner(AB, one=(), two=TURN_AB)
+        learner.put("three")
+        learner.set_longest(0)
+        self.same(learner.longest, 0)
 
     def test_numbers(self):
         learner = Learner(AB)
@@ -587,7 +608,7 @@ class Errors(Case):
         # Edit by edit, and in each of them name, words or behaviour, missing name.
         wrong = (
             (("put", "A", None), InvalidEdit), (("put", "a", None), InvalidWord), (("graph", "a", TWO), InvalidBehaviour), (("drop", "x"), UnknownName),
-            (("graph", "", None), InvalidEdit), (("drop", "X"), InvalidEdit), (("put", "a", (("x",),)), InvalidWord),
+            (("graph", "", None), InvalidEdit), (("put", 5, None), InvalidEdit), (("drop", None), InvalidEdit), (("drop", "X"), InvalidEdit), (("put", "a", (("x",),)), InvalidWord),
         )
         for first, error in wrong:
             for second, _ in wrong:

@@ -12,7 +12,7 @@ from leastnet.hulls.faces import faces, few_faces
 from leastnet.hulls.simplex import Hull, is_sum
 from leastnet.seen.automata import moves_of, set_rows
 from leastnet.seen.behaviours import behaviour_of, run_difference, settled, united
-from leastnet.seen.circles import all_points, rays_of, walked
+from leastnet.seen.circles import all_points, are_too_many, leaving_edges, rays_of, walked
 from leastnet.steps.least import least_net, unavoidable_words
 from helpers import Case
 from reference import AB, FIVE, behaviours, chance_behaviour, circles_at, inside, paths
@@ -126,7 +126,20 @@ class SameAnswers(Case):
                     wanted = many > limit or len(circles) > limit
                     found[wanted] += 1
                     self.assertEqual(limit_of(walked, behaviour), limit if wanted else None, behaviour)
+                    with mock.patch("leastnet.seen.circles.are_too_many", lambda leaving: False):
+                        self.assertEqual(limit_of(walked, behaviour), limit if wanted else None, behaviour)
         self.assertTrue(min(found.values()) > 50, found)
+
+    def test_what_is_told_early(self):
+        for many, wanted in ((1, False), (5, True)):
+            for size in (6, 7):
+                turning = (FIVE, size, tuple(sorted((state, action, (state + 1) % size) for state in range(size) for action in FIVE[:many])))
+                self.assertIs(are_too_many(leaving_edges(turning)), wanted)
+        line = (FIVE, 6, tuple((state, action, state + 1) for state in range(5) for action in FIVE))
+        self.assertIs(are_too_many(leaving_edges(line)), False)
+        # There are 3906 paths; with one edge back there are 3125 circles, with two of them there are too many.
+        self.assertIs(are_too_many(leaving_edges((FIVE, 6, (*line[2], (5, "a", 0))))), False)
+        self.assertIs(are_too_many(leaving_edges((FIVE, 6, (*line[2], (5, "a", 0), (5, "b", 0))))), True)
 
 
 class Times(Case):

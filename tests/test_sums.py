@@ -65,6 +65,17 @@ class Least(Case):
                     self.assertTrue(states(behaviour, whole))
                     self.assertTrue(before is None or before in followers(behaviour, whole))
 
+    def test_all_runs_as_papers(self):
+        found = {True: 0, False: 0}
+        for behaviour, u, before in chance_sums(251, 200):
+            wanted = papers.least_of_all(behaviour, u, before)
+            for run in runs(behaviour, 4):
+                number = product(u, counts(behaviour[0], run))
+                right = number == wanted and (before is None or before in followers(behaviour, run))
+                found[right] += 1
+                self.assertIs(is_least_sum(behaviour, u, ("least", number, run), before=before), right, (behaviour, u, before, run))
+        self.assertTrue(min(found.values()) > 100, found)
+
     def test_circles_that_do_not_matter(self):
         self.same(least_sum(SIDES, (0, -1, 0))[0], "falls")
         self.same(least_sum(SIDES, (0, -1, 0), before="x"), ("least", 0, ()))

@@ -101,9 +101,8 @@ def differences(seen, level):
 def words_behind(seen, level):
     """Return the level of the first unavoidable words with one more action."""
     further = {}
+    # The words of a level are ascending, so the first one with its counts comes first.
     for counts, word in level.items():
         for action, behind in seen.steps_from(counts):
-            longer = (*word, action)
-            if behind not in further or longer < further[behind]:
-                further[behind] = longer
+            further.setdefault(behind, (*word, action))
     return further
