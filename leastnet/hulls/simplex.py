@@ -62,11 +62,7 @@ class Mixer:
             at = self._entering(prices[1:])
             if at is None:
                 return None, prices[1:]
-            steps = [sum_of_products(row[1:], self.columns[at]) for row in rows]
-            leaving = leaving_row(rows, steps)
-            rows = exchanged(rows, steps, leaving, scale)
-            basis[leaving] = at
-            scale = steps[leaving]
+            rows, basis, scale = entered(rows, basis, scale, self.columns[at], at)
 
     def _by_last_basis(self, target):
         """Return the multiples of the last basis that was found, or None if one of them would be below 0."""
@@ -129,6 +125,14 @@ def prices_of(rows, basis):
     return prices
 
 
+def entered(rows, basis, scale, column, at):
+    """Return the rows, the basis and its determinant after the column with this number has entered the basis."""
+    steps = [sum_of_products(row[1:], column) for row in rows]
+    leaving = leaving_row(rows, steps)
+    found = [at if number == leaving else other for number, other in enumerate(basis)]
+    return exchanged(rows, steps, leaving, scale), found, steps[leaving]
+
+
 def leaving_row(rows, steps):
     """Return the number of the row that leaves the basis.
 
@@ -167,11 +171,7 @@ def is_sum(columns, target):
         at = dearest(columns, prices[1:])
         if at is None:
             return False
-        steps = [sum_of_products(row[1:], columns[at]) for row in rows]
-        leaving = leaving_row(rows, steps)
-        rows = exchanged(rows, steps, leaving, scale)
-        basis[leaving] = at
-        scale = steps[leaving]
+        rows, basis, scale = entered(rows, basis, scale, columns[at], at)
 
 
 def dearest(columns, prices):

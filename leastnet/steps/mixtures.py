@@ -41,7 +41,7 @@ class Seen:
 
     def bound_of_step(self, counts, action):
         """Return the pair (u, v) by which the step can be barred, None for an unavoidable one."""
-        return None if counts in self.points_of_action(action) else self._hull(action).mix(counts)[1]
+        return self._hull(action).mix(counts)[1]
 
     def allows(self, counts, action):
         """Tell whether the step is unavoidable, and for None whether the counts are inside all points and rays."""
@@ -56,13 +56,10 @@ class Seen:
 
     def mixture_or_bound(self, counts, action):
         """Return (mixture, None) of the step, or (None, bound); runs of None need not be followed by anything."""
-        known = self.points_of_action(action)
-        if counts in known:
-            return ((((1, 1), known[counts]),), ()), None
         multiples, bound = self._hull(action).mix(counts)
         if multiples is None:
             return None, bound
-        points = list(known.values())
+        points = list(self.points_of_action(action).values())
         rays = list(self.rays.values())
         parts = []
         circles = []
