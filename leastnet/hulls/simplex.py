@@ -7,7 +7,7 @@ from leastnet.errors import InvalidPoints, InvalidVector
 from leastnet.hulls.cones import described
 
 # After so many questions it is worth looking for the facets, if there are at most so many of them.
-FACETS = {4: 40, 20: 100}
+FACETS = {1: 12, 4: 40, 20: 100}
 
 
 def width_of(points, rays):

@@ -114,8 +114,10 @@ class Learner:
 
     def _move(self, logs, behaviour):
         """Go over to these logs and this behaviour, the united one; return the news."""
-        if behaviour != self.seen:
-            self._seen = seen_of(behaviour)
+        if behaviour == self.seen:
+            self._logs = logs
+            return ()
+        self._seen = seen_of(behaviour)
         self._logs = logs
         news = []
         watched = {}
