@@ -14,8 +14,8 @@ from leastnet.seen.behaviours import all_united, behaviour_of, is_behaviour, log
 from leastnet.seen.respect import respects
 from leastnet.steps.least import least_net
 from leastnet.steps.steps import is_unavoidable, is_word_paper, unavoidable_followers
-from helpers import Case, kinds, same
-from reference import AB, ABX, CP, FIVE, NO_BEHAVIOURS, NOTHING, TURN, TWO, allows_word, behaviours, words
+from helpers import Case, kinds
+from reference import AB, ABX, CP, FIVE, NO_BEHAVIOURS, TURN, TWO, allows_word, behaviours, words
 from test_covers import chance_pairs
 from test_least import MANY
 import papers

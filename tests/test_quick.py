@@ -151,33 +151,33 @@ class Times(Case):
         self.assertTrue(time.process_time() - start < seconds, time.process_time() - start)
 
     def test_faces(self):
-        self.within(4, 1000, lambda: faces(CUBE, ()))
-        self.within(4, 2000, lambda: faces(POINTS, RAYS))
-        self.within(4, 4000, lambda: faces(tuple(point[:3] for point in POINTS), tuple(ray[:3] for ray in RAYS)))
+        self.within(8, 700, lambda: faces(CUBE, ()))
+        self.within(6, 1500, lambda: faces(POINTS, RAYS))
+        self.within(5, 4000, lambda: faces(tuple(point[:3] for point in POINTS), tuple(ray[:3] for ray in RAYS)))
 
     def test_least_nets(self):
-        self.within(4, 1000, lambda: least_net(LEAST))
-        self.within(4, 600, lambda: list(unavoidable_words(LEAST, longest=4)))
+        self.within(5, 800, lambda: least_net(LEAST))
+        self.within(5, 800, lambda: list(unavoidable_words(LEAST, longest=4)))
 
     def test_too_many_paths(self):
         layers = [[0]] + [list(range(4 * at + 1, 4 * at + 5)) for at in range(7)]
         edges = [(one, "a", other) for first, second in zip(layers, layers[1:]) for one in first for other in second]
         behaviour = behaviour_of(("a",), *edges)
         self.fails_with(TooMany, "limit", 5000, all_points, behaviour)
-        self.within(4, 1000, lambda: all_points(behaviour))
+        self.within(5, 1000, lambda: all_points(behaviour))
         turning = behaviour_of(FIVE, *[(state, action, (state + 1) % 6) for state in range(6) for action in FIVE])
         self.fails_with(TooMany, "limit", 5000, rays_of, turning)
-        self.within(4, 1000, lambda: rays_of(turning))
+        self.within(5, 1000, lambda: rays_of(turning))
 
     def test_many_sets(self):
         one, other, more = ring(32, "a", "b"), ring(48, "b", "a"), ring(67, "b", "a")
         self.same(limit_of(united, one, other), None)
-        self.within(4, 400, lambda: united(one, other))
-        self.within(4, 400, lambda: run_difference(one, other))
+        self.within(5, 200, lambda: united(one, other))
+        self.within(5, 200, lambda: run_difference(one, other))
         for call in (lambda: united(one, more), lambda: run_difference(one, more), lambda: settled(late(12))):
             self.fails_with(TooMany, "limit", 2000, call)
-            self.within(4, 400, call)
-        self.within(4, 400, lambda: settled(late(11)))
+            self.within(5, 200, call)
+        self.within(5, 200, lambda: settled(late(11)))
 
 
 if __name__ == "__main__":

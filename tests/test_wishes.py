@@ -9,7 +9,7 @@ from leastnet.compare.wishes import barring, barring_all, is_barring, thinned
 from leastnet.errors import InvalidBehaviour, InvalidNet, InvalidOperation, InvalidWord, TooMany
 from leastnet.nets.nets import Net
 from leastnet.nets.places import first_barred
-from leastnet.seen.behaviours import behaviour_of, log_of
+from leastnet.seen.behaviours import log_of
 from leastnet.seen.respect import respects
 from leastnet.steps.least import least_net, net_respects
 from leastnet.steps.steps import is_unavoidable
